@@ -8,23 +8,9 @@ import (
 	"testing"
 
 	"regcert/api"
+	"regcert/testkit"
 	"regcert/varint"
 )
-
-// numbers is a sequence of numbers that look random.
-type numbers uint64
-
-// below returns the next number, from 0 to n - 1.
-func (s *numbers) below(n int) int {
-	*s = *s*6364136223846793005 + 1442695040888963407
-	return int(uint64(*s>>33) % uint64(n))
-}
-
-// wide returns the next number, of any size up to 64 bits.
-func (s *numbers) wide() uint64 {
-	v := uint64(s.below(1<<31))<<33 ^ uint64(s.below(1<<31))<<10 ^ uint64(s.below(1<<10))
-	return v >> s.below(64)
-}
 
 // model is a cursor by the wording of P2.1 to P2.3: it keeps the bytes that are left, and moves by cutting them off.
 type model struct {
@@ -135,40 +121,40 @@ func (m *model) left() int {
 }
 
 // step performs the same operation on the cursor and on the model and says what it is and whether the results are equal.
-func step(s *numbers, c *Cursor, m *model) (string, bool) {
+func step(s *testkit.Numbers, c *Cursor, m *model) (string, bool) {
 	small := []int{-1, 0, 1, 2, 3, 5, 200, math.MaxInt, math.MinInt}
-	n := small[s.below(len(small))]
-	k := small[s.below(len(small))]
+	n := small[s.Below(len(small))]
+	k := small[s.Below(len(small))]
 	args := strconv.Itoa(n) + ", " + strconv.Itoa(k)
-	switch s.below(12) {
+	switch s.Below(12) {
 	case 0, 1:
 		return "Byte", c.Byte() == m.byte()
 	case 2, 3:
-		n = s.below(5) - s.below(2)*s.below(2)
+		n = s.Below(5) - s.Below(2)*s.Below(2)
 		return "Bytes " + strconv.Itoa(n), bytes.Equal(c.Bytes(n), m.bytes(n))
 	case 4:
 		return "Bytes " + args, bytes.Equal(c.Bytes(n), m.bytes(n))
 	case 5, 6:
-		v := s.wide()
+		v := s.Wide()
 		return "Uint " + strconv.FormatUint(v, 10), c.Uint(v) == m.uint(v)
 	case 7, 8:
 		return "Int", c.Int() == m.int()
 	case 9:
 		return "Count " + args, c.Count(n, k) == m.count(n, k)
 	case 10:
-		k = s.below(3)
+		k = s.Below(3)
 		return "Count 200, " + strconv.Itoa(k), c.Count(200, k) == m.count(200, k)
 	}
-	if s.below(4) > 0 {
+	if s.Below(4) > 0 {
 		c.Fail(api.OK)
 		return "Fail 0", true
 	}
-	if s.below(2) == 0 {
+	if s.Below(2) == 0 {
 		c.End()
 		m.end()
 		return "End", true
 	}
-	e := api.Errno(s.below(40))
+	e := api.Errno(s.Below(40))
 	c.Fail(e)
 	m.fail(e)
 	return "Fail " + strconv.Itoa(int(e)), true
@@ -176,11 +162,11 @@ func step(s *numbers, c *Cursor, m *model) (string, bool) {
 
 // P2.1, P2.2, P2.3, P2.5: cursors behave like the model, whatever the bytes and the operations.
 func TestCursorAgreesWithModel(t *testing.T) {
-	s := numbers(1)
+	s := testkit.Numbers(1)
 	for range 20000 {
-		b := make([]byte, s.below(30))
+		b := make([]byte, s.Below(30))
 		for k := range b {
-			b[k] = byte(s.below(256) >> s.below(8))
+			b[k] = byte(s.Below(256) >> s.Below(8))
 		}
 		c, m := New(b), &model{all: b, rest: b}
 		log := ""
@@ -463,18 +449,18 @@ func TestNilWriter(t *testing.T) {
 
 // P2.5: everything that is written is read back, and the cursor is then at the end.
 func TestReadBack(t *testing.T) {
-	s := numbers(5)
+	s := testkit.Numbers(5)
 	for range 2000 {
 		w := &Writer{}
 		var reads []func(c *Cursor) bool
-		for range s.below(20) {
-			v := s.wide()
-			n := int64(s.wide())
-			b := make([]byte, s.below(4))
+		for range s.Below(20) {
+			v := s.Wide()
+			n := int64(s.Wide())
+			b := make([]byte, s.Below(4))
 			for k := range b {
-				b[k] = byte(s.below(256))
+				b[k] = byte(s.Below(256))
 			}
-			switch s.below(4) {
+			switch s.Below(4) {
 			case 0:
 				w.Byte(byte(v))
 				reads = append(reads, func(c *Cursor) bool { return c.Byte() == byte(v) })
@@ -502,37 +488,29 @@ func TestReadBack(t *testing.T) {
 	}
 }
 
-// spoil changes all bytes of b and of its unused capacity.
-func spoil(b []byte) {
-	b = b[:cap(b)]
-	for k := range b {
-		b[k] ^= 255
-	}
-}
-
 // P2.6: the bytes of a cursor are its own, and so are those that it returns.
 func TestCursorMemory(t *testing.T) {
 	b := []byte{1, 2, 3, 4, 5, 6}
 	c := New(b[:4])
-	spoil(b)
+	testkit.Spoil(b)
 	one := c.Bytes(1)
 	if !bytes.Equal(one, []byte{1}) {
 		t.Errorf("the cursor has retained its argument: %v", one)
 	}
-	spoil(one)
+	testkit.Spoil(one)
 	rest := c.Bytes(3)
 	if !bytes.Equal(rest, []byte{2, 3, 4}) {
 		t.Errorf("a result shares memory with the cursor: %v", rest)
 	}
 	c = New([]byte{1, 2, 3})
 	again := *c // which reads the same bytes once more
-	spoil(c.Bytes(3))
+	testkit.Spoil(c.Bytes(3))
 	if rest = again.Bytes(3); !bytes.Equal(rest, []byte{1, 2, 3}) {
 		t.Errorf("a result shares memory with bytes that have been read: %v", rest)
 	}
 	b = []byte{1, 2, 3, 4}
 	c = New(b[:2])
-	spoil(c.Bytes(2))
+	testkit.Spoil(c.Bytes(2))
 	c.Byte()
 	if !bytes.Equal(b, []byte{1, 2, 3, 4}) {
 		t.Errorf("the argument of New has been changed to %v", b)
@@ -548,9 +526,9 @@ func TestWriterMemory(t *testing.T) {
 	if !bytes.Equal(b, []byte{1, 2, 3, 4}) {
 		t.Errorf("the argument of Bytes has been changed to %v", b)
 	}
-	spoil(b)
+	testkit.Spoil(b)
 	first, second := w.Out(), w.Out()
-	spoil(first)
+	testkit.Spoil(first)
 	if !bytes.Equal(second, []byte{1, 2, 9}) || !bytes.Equal(w.Out(), []byte{1, 2, 9}) {
 		t.Errorf("results of Out share memory: %v, %v", second, w.Out())
 	}
