@@ -4,80 +4,11 @@ import (
 	"math"
 	"reflect"
 	"slices"
-	"strings"
 	"testing"
 
 	"regcert/api"
 	"regcert/testkit"
 )
-
-// instrUses returns the fields that instructions with the opcode use, by the table of layer 5, with I for Imm, and whether it is a source opcode.
-func instrUses(op int) (string, bool) {
-	switch {
-	case op == 1:
-		return "D I", true
-	case op >= 2 && op <= 4:
-		return "D A", true
-	case op >= 5 && op <= 16:
-		return "D A B", true
-	case op == 17:
-		return "A", true
-	}
-	return "", false
-}
-
-// termUses returns the fields that terminators of the kind use, and whether there are such terminators.
-func termUses(kind int) (string, bool) {
-	switch kind {
-	case 1:
-		return "To", true
-	case 2:
-		return "A To Else", true
-	case 3:
-		return "A", true
-	}
-	return "", false
-}
-
-// outside reports whether v is not from 0 to n - 1.
-func outside(v, n int) bool {
-	return v < 0 || v >= n
-}
-
-// instrModel is Instr by the wording of P7.1.
-func instrModel(i api.Instr, regs int) api.Errno {
-	uses, ok := instrUses(i.Op)
-	if !ok {
-		return api.ErrOpcode
-	}
-	d, a, b, imm := strings.Contains(uses, "D"), strings.Contains(uses, "A"), strings.Contains(uses, "B"), strings.Contains(uses, "I")
-	if d && outside(i.D, regs) || a && outside(i.A, regs) || b && outside(i.B, regs) {
-		return api.ErrReg
-	}
-	if !d && i.D != 0 || !a && i.A != 0 || !b && i.B != 0 || !imm && i.Imm != 0 {
-		return api.ErrField
-	}
-	return api.OK
-}
-
-// termModel is Term by the wording of P7.2.
-func termModel(t api.Term, regs, blocks int) api.Errno {
-	uses, ok := termUses(t.Kind)
-	if !ok {
-		return api.ErrTerm
-	}
-	a, to, other := strings.Contains(uses, "A"), strings.Contains(uses, "To"), strings.Contains(uses, "Else")
-	if a && outside(t.A, regs) {
-		return api.ErrReg
-	}
-	if to && outside(t.To, blocks) || other && outside(t.Else, blocks) {
-		return api.ErrTarget
-	}
-	if !a && t.A != 0 || !to && t.To != 0 || !other && t.Else != 0 {
-		return api.ErrField
-	}
-	return api.OK
-}
 
 // checkModel is Check by the wording of P7.3.
 func checkModel(f api.Func) api.Errno {
@@ -95,9 +26,9 @@ func checkModel(f api.Func) api.Errno {
 	for _, b := range f.Blocks {
 		code += len(b.Code)
 		for _, i := range b.Code {
-			errs = append(errs, instrModel(i, f.Regs))
+			errs = append(errs, testkit.InstrError(i, f.Regs))
 		}
-		errs = append(errs, termModel(b.Term, f.Regs, len(f.Blocks)))
+		errs = append(errs, testkit.TermError(b.Term, f.Regs, len(f.Blocks)))
 	}
 	if len(f.Blocks) > 1<<20 || code > 1<<20 {
 		return api.ErrLimit
@@ -113,7 +44,7 @@ func checkModel(f api.Func) api.Errno {
 // checkInstr compares Instr with the model.
 func checkInstr(t *testing.T, i api.Instr, regs int) {
 	t.Helper()
-	if err, want := Instr(i, regs), instrModel(i, regs); err != want {
+	if err, want := Instr(i, regs), testkit.InstrError(i, regs); err != want {
 		t.Errorf("Instr(%+v, %d) = %d, want %d", i, regs, err, want)
 	}
 }
@@ -121,7 +52,7 @@ func checkInstr(t *testing.T, i api.Instr, regs int) {
 // checkTerm compares Term and Successors with the model and the wording.
 func checkTerm(t *testing.T, x api.Term, regs, blocks int) {
 	t.Helper()
-	if err, want := Term(x, regs, blocks), termModel(x, regs, blocks); err != want {
+	if err, want := Term(x, regs, blocks), testkit.TermError(x, regs, blocks); err != want {
 		t.Errorf("Term(%+v, %d, %d) = %d, want %d", x, regs, blocks, err, want)
 	}
 	var want []int
@@ -134,20 +65,6 @@ func checkTerm(t *testing.T, x api.Term, regs, blocks int) {
 	if to := Successors(x); !slices.Equal(to, want) {
 		t.Errorf("Successors(%+v) = %v, want %v", x, to, want)
 	}
-}
-
-// numbers returns integers around 0 and n, those whose low bits are a small number, and extreme ones.
-func numbers(n int) []int {
-	return []int{math.MinInt, -1 << 32, -2, -1, 0, 1, n - 1, n, n + 1, 1 << 32, 1<<32 + 1, math.MaxInt}
-}
-
-// opcodes returns the integers around the opcodes, and others whose low bits are an opcode.
-func opcodes() []int {
-	l := []int{math.MinInt, math.MinInt + 1, math.MaxInt}
-	for op := -3; op < 40; op++ {
-		l = append(l, op, op+1<<8, op+1<<32, op+math.MinInt+3)
-	}
-	return l
 }
 
 // P7.1: the opcodes are written as numbers, so that their constants are compared too.
@@ -186,7 +103,7 @@ func TestInstr(t *testing.T) {
 
 // P7.1: all opcodes with all combinations of edge values.
 func TestInstrAsModel(t *testing.T) {
-	for _, op := range opcodes() {
+	for _, op := range testkit.Opcodes() {
 		for _, imm := range []int64{0, 1, -1, 1 << 32, math.MinInt64} {
 			checkInstr(t, api.Instr{Op: op, Imm: imm}, 1)
 			checkInstr(t, api.Instr{Op: op, D: 1, A: 1, B: 1, Imm: imm}, 2)
@@ -194,10 +111,10 @@ func TestInstrAsModel(t *testing.T) {
 		}
 	}
 	for op := range 20 {
-		for _, regs := range numbers(3) {
-			for _, d := range numbers(3) {
-				for _, a := range numbers(3) {
-					for _, b := range numbers(3) {
+		for _, regs := range testkit.Around(3) {
+			for _, d := range testkit.Around(3) {
+				for _, a := range testkit.Around(3) {
+					for _, b := range testkit.Around(3) {
 						checkInstr(t, api.Instr{Op: op, D: d, A: a, B: b}, regs)
 						checkInstr(t, api.Instr{Op: op, D: d, A: a, B: b, Imm: 1}, regs)
 					}
@@ -238,9 +155,9 @@ func TestTerm(t *testing.T) {
 // P7.2: Term and Successors for all combinations of edge values.
 func TestTermAsModel(t *testing.T) {
 	for _, kind := range []int{math.MinInt, -1, 0, 1, 2, 3, 4, 5, 8, 257, 258, 259, 1<<32 + 1, 1<<32 + 2, math.MinInt + 1, math.MinInt + 2, math.MaxInt} {
-		for _, a := range numbers(3) {
-			for _, to := range numbers(5) {
-				for _, other := range numbers(5) {
+		for _, a := range testkit.Around(3) {
+			for _, to := range testkit.Around(5) {
+				for _, other := range testkit.Around(5) {
 					for _, regs := range []int{math.MinInt, -1, 0, 1, 3, math.MaxInt} {
 						checkTerm(t, api.Term{Kind: kind, A: a, To: to, Else: other}, regs, 5)
 						checkTerm(t, api.Term{Kind: kind, A: a, To: to, Else: other}, 3, regs)
@@ -396,36 +313,6 @@ func TestCode(t *testing.T) {
 	}
 }
 
-// validInstr returns a valid instruction for a positive number of registers.
-func validInstr(s *testkit.Numbers, regs int) api.Instr {
-	i := api.Instr{Op: 1 + s.Below(17)}
-	uses, _ := instrUses(i.Op)
-	if strings.Contains(uses, "D") {
-		i.D = s.Below(regs)
-	}
-	if strings.Contains(uses, "A") {
-		i.A = s.Below(regs)
-	}
-	if strings.Contains(uses, "B") {
-		i.B = s.Below(regs)
-	}
-	if strings.Contains(uses, "I") {
-		i.Imm = int64(s.Wide())
-	}
-	return i
-}
-
-// validTerm returns a valid terminator for positive numbers of registers and blocks.
-func validTerm(s *testkit.Numbers, regs, blocks int) api.Term {
-	switch s.Below(3) {
-	case 0:
-		return api.Term{Kind: 1, To: s.Below(blocks)}
-	case 1:
-		return api.Term{Kind: 2, A: s.Below(regs), To: s.Below(blocks), Else: s.Below(blocks)}
-	}
-	return api.Term{Kind: 3, A: s.Below(regs)}
-}
-
 // validFunc returns a small valid function.
 func validFunc(s *testkit.Numbers) api.Func {
 	f := api.Func{Regs: 1 + s.Below(4)}
@@ -434,9 +321,9 @@ func validFunc(s *testkit.Numbers) api.Func {
 	for range blocks {
 		var b api.Block
 		for range s.Below(4) {
-			b.Code = append(b.Code, validInstr(s, f.Regs))
+			b.Code = append(b.Code, s.Instr(f.Regs))
 		}
-		b.Term = validTerm(s, f.Regs, blocks)
+		b.Term = s.Term(f.Regs, blocks)
 		f.Blocks = append(f.Blocks, b)
 	}
 	return f

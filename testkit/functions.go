@@ -1,0 +1,140 @@
+package testkit
+
+import (
+	"math"
+	"strings"
+
+	"regcert/api"
+)
+
+// instrUses returns the fields that instructions with the opcode use, by the table of layer 5, with I for Imm, and whether it is a source opcode.
+func instrUses(op int) (string, bool) {
+	switch {
+	case op == 1:
+		return "D I", true
+	case op >= 2 && op <= 4:
+		return "D A", true
+	case op >= 5 && op <= 16:
+		return "D A B", true
+	case op == 17:
+		return "A", true
+	}
+	return "", false
+}
+
+// termUses returns the fields that terminators of the kind use, and whether there are such terminators.
+func termUses(kind int) (string, bool) {
+	switch kind {
+	case 1:
+		return "To", true
+	case 2:
+		return "A To Else", true
+	case 3:
+		return "A", true
+	}
+	return "", false
+}
+
+// outside reports whether v is not from 0 to n - 1.
+func outside(v, n int) bool {
+	return v < 0 || v >= n
+}
+
+// InstrError is what layer 7 must find wrong with an instruction, by the wording of P7.1.
+func InstrError(i api.Instr, regs int) api.Errno {
+	uses, ok := instrUses(i.Op)
+	if !ok {
+		return api.ErrOpcode
+	}
+	d, a, b, imm := strings.Contains(uses, "D"), strings.Contains(uses, "A"), strings.Contains(uses, "B"), strings.Contains(uses, "I")
+	if d && outside(i.D, regs) || a && outside(i.A, regs) || b && outside(i.B, regs) {
+		return api.ErrReg
+	}
+	if !d && i.D != 0 || !a && i.A != 0 || !b && i.B != 0 || !imm && i.Imm != 0 {
+		return api.ErrField
+	}
+	return api.OK
+}
+
+// TermError is what layer 7 must find wrong with a terminator, by the wording of P7.2.
+func TermError(t api.Term, regs, blocks int) api.Errno {
+	uses, ok := termUses(t.Kind)
+	if !ok {
+		return api.ErrTerm
+	}
+	a, to, other := strings.Contains(uses, "A"), strings.Contains(uses, "To"), strings.Contains(uses, "Else")
+	if a && outside(t.A, regs) {
+		return api.ErrReg
+	}
+	if to && outside(t.To, blocks) || other && outside(t.Else, blocks) {
+		return api.ErrTarget
+	}
+	if !a && t.A != 0 || !to && t.To != 0 || !other && t.Else != 0 {
+		return api.ErrField
+	}
+	return api.OK
+}
+
+// Around returns integers around 0 and n, those whose low bits are a small number, and extreme ones.
+func Around(n int) []int {
+	return []int{math.MinInt, -1 << 32, -2, -1, 0, 1, n - 1, n, n + 1, 1 << 32, 1<<32 + 1, math.MaxInt}
+}
+
+// Opcodes returns the integers around the opcodes, and others whose low bits are an opcode.
+func Opcodes() []int {
+	l := []int{math.MinInt, math.MinInt + 1, math.MaxInt}
+	for op := -3; op < 40; op++ {
+		l = append(l, op, op+1<<8, op+1<<32, op+math.MinInt+3)
+	}
+	return l
+}
+
+// Instr returns a valid instruction for a positive number of registers.
+func (s *Numbers) Instr(regs int) api.Instr {
+	i := api.Instr{Op: 1 + s.Below(17)}
+	uses, _ := instrUses(i.Op)
+	if strings.Contains(uses, "D") {
+		i.D = s.Below(regs)
+	}
+	if strings.Contains(uses, "A") {
+		i.A = s.Below(regs)
+	}
+	if strings.Contains(uses, "B") {
+		i.B = s.Below(regs)
+	}
+	if strings.Contains(uses, "I") {
+		i.Imm = int64(s.Wide())
+	}
+	return i
+}
+
+// Mach returns a valid instruction of an allocated function for positive numbers of registers and slots, often a move.
+func (s *Numbers) Mach(regs, slots int) api.Mach {
+	if s.Below(2) == 0 {
+		move := api.Mach{Op: 18, Dst: api.Loc(2 * s.Below(regs)), Src: api.Loc(2 * s.Below(regs))}
+		switch s.Below(3) {
+		case 0:
+			move.Dst = api.Loc(2*s.Below(slots) + 1)
+		case 1:
+			move.Src = api.Loc(2*s.Below(slots) + 1)
+		}
+		return move
+	}
+	i := s.Instr(regs)
+	// A copy, which allocated functions do not have, has the fields of a negation.
+	if i.Op == 2 {
+		i.Op = 3
+	}
+	return api.Mach{Op: i.Op, D: i.D, A: i.A, B: i.B, Imm: i.Imm}
+}
+
+// Term returns a valid terminator for positive numbers of registers and blocks.
+func (s *Numbers) Term(regs, blocks int) api.Term {
+	switch s.Below(3) {
+	case 0:
+		return api.Term{Kind: 1, To: s.Below(blocks)}
+	case 1:
+		return api.Term{Kind: 2, A: s.Below(regs), To: s.Below(blocks), Else: s.Below(blocks)}
+	}
+	return api.Term{Kind: 3, A: s.Below(regs)}
+}
