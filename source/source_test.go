@@ -313,22 +313,6 @@ func TestCode(t *testing.T) {
 	}
 }
 
-// validFunc returns a small valid function.
-func validFunc(s *testkit.Numbers) api.Func {
-	f := api.Func{Regs: 1 + s.Below(4)}
-	f.Args = s.Below(f.Regs + 1)
-	blocks := 1 + s.Below(4)
-	for range blocks {
-		var b api.Block
-		for range s.Below(4) {
-			b.Code = append(b.Code, s.Instr(f.Regs))
-		}
-		b.Term = s.Term(f.Regs, blocks)
-		f.Blocks = append(f.Blocks, b)
-	}
-	return f
-}
-
 // damage changes a field of f.
 func damage(s *testkit.Numbers, f *api.Func) {
 	fields := []*int{&f.Args, &f.Regs}
@@ -354,7 +338,7 @@ func TestCheckAsModel(t *testing.T) {
 	s := testkit.Numbers(7)
 	seen := map[api.Errno]bool{}
 	for range 40000 {
-		f := validFunc(&s)
+		f := s.Func()
 		if err := Check(f); err != api.OK {
 			t.Errorf("valid function %+v: error %d", f, err)
 		}
@@ -374,30 +358,20 @@ func TestCheckAsModel(t *testing.T) {
 	}
 }
 
-// cloneFunc returns a copy of f with the unused capacity of its slices.
-func cloneFunc(f api.Func) api.Func {
-	blocks := slices.Clone(f.Blocks[:cap(f.Blocks)])
-	for k, b := range blocks {
-		blocks[k].Code = slices.Clone(b.Code[:cap(b.Code)])
-	}
-	f.Blocks = blocks
-	return f
-}
-
 // P7.4
 func TestArgumentsUnmodified(t *testing.T) {
 	s := testkit.Numbers(9)
 	for range 2000 {
-		f := validFunc(&s)
+		f := s.Func()
 		damage(&s, &f)
 		for k := range f.Blocks {
 			f.Blocks[k].Code = append(f.Blocks[k].Code, api.Instr{Op: 9, D: 9, A: 9, B: 9, Imm: 9})[:len(f.Blocks[k].Code)]
 		}
 		f.Blocks = append(f.Blocks, api.Block{Code: []api.Instr{{Op: 9}}, Term: api.Term{Kind: 9}})[:len(f.Blocks)]
-		before := cloneFunc(f)
+		before := testkit.WholeFunc(f)
 		Check(f)
 		Code(f)
-		if after := cloneFunc(f); !reflect.DeepEqual(after, before) {
+		if after := testkit.WholeFunc(f); !reflect.DeepEqual(after, before) {
 			t.Errorf("%+v has changed to %+v", before, after)
 		}
 	}

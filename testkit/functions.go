@@ -2,6 +2,7 @@ package testkit
 
 import (
 	"math"
+	"slices"
 	"strings"
 
 	"regcert/api"
@@ -137,4 +138,30 @@ func (s *Numbers) Term(regs, blocks int) api.Term {
 		return api.Term{Kind: 2, A: s.Below(regs), To: s.Below(blocks), Else: s.Below(blocks)}
 	}
 	return api.Term{Kind: 3, A: s.Below(regs)}
+}
+
+// Func returns a small valid function.
+func (s *Numbers) Func() api.Func {
+	f := api.Func{Regs: 1 + s.Below(4)}
+	f.Args = s.Below(f.Regs + 1)
+	blocks := 1 + s.Below(4)
+	for range blocks {
+		var b api.Block
+		for range s.Below(4) {
+			b.Code = append(b.Code, s.Instr(f.Regs))
+		}
+		b.Term = s.Term(f.Regs, blocks)
+		f.Blocks = append(f.Blocks, b)
+	}
+	return f
+}
+
+// WholeFunc returns a copy of f with the unused capacity of its slices.
+func WholeFunc(f api.Func) api.Func {
+	blocks := slices.Clone(f.Blocks[:cap(f.Blocks)])
+	for k, b := range blocks {
+		blocks[k].Code = slices.Clone(b.Code[:cap(b.Code)])
+	}
+	f.Blocks = blocks
+	return f
 }
