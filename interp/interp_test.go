@@ -357,24 +357,13 @@ func stepModel(f api.Func, r api.Run) api.Run {
 	return next
 }
 
-// someArgs returns arguments for f, with unused capacity.
-func someArgs(s *testkit.Numbers, f api.Func) []int64 {
-	args := make([]int64, f.Args, f.Args+6)
-	for k := range args {
-		if args[k] = int64(s.Below(5)) - 2; s.Below(2) == 0 {
-			args[k] = int64(s.Wide())
-		}
-	}
-	return args
-}
-
 // P9.1, P9.2, P9.3: the runs of many functions, for all small amounts of fuel.
 func TestRunsAsModel(t *testing.T) {
 	s := testkit.Numbers(11)
 	seen := map[int]int{}
 	for range 4000 {
 		f := s.Func()
-		args := someArgs(&s, f)
+		args := s.Values(f.Args)
 		r := mustStart(t, f, args...)
 		want := api.Run{Regs: append(slices.Clone(args), make([]int64, f.Regs-f.Args)...)}
 		for fuel := range 25 {
@@ -408,32 +397,27 @@ func withRoom(f api.Func) api.Func {
 	return f
 }
 
-// whole returns a copy of l with its unused capacity.
-func whole(l []int64) []int64 {
-	return slices.Clone(l[:cap(l)])
-}
-
 // P9.4: Start and Exec.
 func TestArguments(t *testing.T) {
 	s := testkit.Numbers(12)
 	for range 2000 {
 		f := withRoom(s.Func())
-		args := someArgs(&s, f)
-		functionBefore, argsBefore := testkit.WholeFunc(f), whole(args)
+		args := s.Values(f.Args)
+		functionBefore, argsBefore := testkit.WholeFunc(f), testkit.WholeValues(args)
 		fuel := s.Below(30)
 		first, last := mustStart(t, f, args...), mustExec(t, f, fuel, args...)
 		firstBefore, lastBefore := testkit.CloneRun(first), testkit.CloneRun(last)
-		if !reflect.DeepEqual(testkit.WholeFunc(f), functionBefore) || !slices.Equal(whole(args), argsBefore) {
+		if !reflect.DeepEqual(testkit.WholeFunc(f), functionBefore) || !slices.Equal(testkit.WholeValues(args), argsBefore) {
 			t.Errorf("arguments have changed from %+v, %v to %+v, %v", functionBefore, argsBefore, f, args)
 		}
 		testkit.SpoilValues(args)
 		checkRun(t, "initial run when the arguments have changed", first, firstBefore)
 		checkRun(t, "last run when the arguments have changed", last, lastBefore)
-		argsBefore = whole(args)
+		argsBefore = testkit.WholeValues(args)
 		testkit.SpoilRun(first)
 		checkRun(t, "last run when the initial one has changed", last, lastBefore)
 		testkit.SpoilRun(last)
-		if !reflect.DeepEqual(testkit.WholeFunc(f), functionBefore) || !slices.Equal(whole(args), argsBefore) {
+		if !reflect.DeepEqual(testkit.WholeFunc(f), functionBefore) || !slices.Equal(testkit.WholeValues(args), argsBefore) {
 			t.Errorf("arguments have changed from %+v, %v to %+v, %v with the result", functionBefore, argsBefore, f, args)
 		}
 	}
@@ -445,7 +429,7 @@ func TestStepArguments(t *testing.T) {
 	seen := map[int]bool{}
 	for range 2000 {
 		f := withRoom(s.Func())
-		args := someArgs(&s, f)
+		args := s.Values(f.Args)
 		r := mustStart(t, f, args...)
 		for range s.Below(30) {
 			r = Step(f, r)
@@ -454,14 +438,14 @@ func TestStepArguments(t *testing.T) {
 		r.Regs = append(r.Regs, 8, 8, 8)[:len(r.Regs)]
 		r.Trace = append(r.Trace, 9, 9, 9)[:len(r.Trace)]
 		seen[r.State] = true
-		functionBefore, regs, trace := testkit.WholeFunc(f), whole(r.Regs), whole(r.Trace)
+		functionBefore, regs, trace := testkit.WholeFunc(f), testkit.WholeValues(r.Regs), testkit.WholeValues(r.Trace)
 		next, other := Step(f, r), Step(f, r)
 		nextBefore := testkit.CloneRun(next)
-		if !reflect.DeepEqual(testkit.WholeFunc(f), functionBefore) || !slices.Equal(whole(r.Regs), regs) || !slices.Equal(whole(r.Trace), trace) {
+		if !reflect.DeepEqual(testkit.WholeFunc(f), functionBefore) || !slices.Equal(testkit.WholeValues(r.Regs), regs) || !slices.Equal(testkit.WholeValues(r.Trace), trace) {
 			t.Errorf("arguments have changed to %+v, %+v", f, r)
 		}
 		testkit.SpoilRun(other)
-		if !slices.Equal(whole(r.Regs), regs) || !slices.Equal(whole(r.Trace), trace) {
+		if !slices.Equal(testkit.WholeValues(r.Regs), regs) || !slices.Equal(testkit.WholeValues(r.Trace), trace) {
 			t.Errorf("run has changed to %+v with the result", r)
 		}
 		checkRun(t, "result when another one has changed", next, nextBefore)

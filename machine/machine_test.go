@@ -449,19 +449,11 @@ func TestMovesAsModel(t *testing.T) {
 
 // someFunc returns a small function, which is valid unless it has too many consecutive moves.
 func someFunc(s *testkit.Numbers) api.MFunc {
-	f := api.MFunc{Regs: 1 + s.Below(4), Slots: 1 + s.Below(4)}
-	f.Args = s.Below(f.Slots + 1)
-	blocks := 1 + s.Below(4)
-	for range blocks {
-		var b api.MBlock
-		for range s.Below(6) {
-			b.Code = append(b.Code, s.Mach(f.Regs, f.Slots))
-		}
-		if s.Below(4) == 0 {
+	f := s.MFunc()
+	for k := range f.Blocks {
+		if b := &f.Blocks[k]; s.Below(4) == 0 {
 			b.Code = append(b.Code, slices.Repeat([]api.Mach{move(0, 1)}, 60+s.Below(5))...)
 		}
-		b.Term = s.Term(f.Regs, blocks)
-		f.Blocks = append(f.Blocks, b)
 	}
 	return f
 }
@@ -509,16 +501,6 @@ func TestCheckAsModel(t *testing.T) {
 	}
 }
 
-// whole returns a copy of f with the unused capacity of its slices.
-func whole(f api.MFunc) api.MFunc {
-	all := slices.Clone(f.Blocks[:cap(f.Blocks)])
-	for k, b := range all {
-		all[k].Code = slices.Clone(b.Code[:cap(b.Code)])
-	}
-	f.Blocks = all
-	return f
-}
-
 // P8.4
 func TestArgumentsUnmodified(t *testing.T) {
 	s := testkit.Numbers(10)
@@ -530,13 +512,13 @@ func TestArgumentsUnmodified(t *testing.T) {
 			f.Blocks[k].Code = append(b.Code, code("mlfgc")...)[:len(b.Code)]
 		}
 		f.Blocks = append(f.Blocks, blocks("mo", "c")...)[:len(f.Blocks)]
-		before := whole(f)
+		before := testkit.WholeMFunc(f)
 		Check(f)
 		Code(f)
 		for _, b := range f.Blocks {
 			Moves(b.Code)
 		}
-		if after := whole(f); !reflect.DeepEqual(after, before) {
+		if after := testkit.WholeMFunc(f); !reflect.DeepEqual(after, before) {
 			t.Errorf("%+v has changed to %+v", before, after)
 		}
 	}

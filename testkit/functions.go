@@ -156,8 +156,34 @@ func (s *Numbers) Func() api.Func {
 	return f
 }
 
+// MFunc returns a small valid allocated function.
+func (s *Numbers) MFunc() api.MFunc {
+	f := api.MFunc{Regs: 1 + s.Below(4), Slots: 1 + s.Below(4)}
+	f.Args = s.Below(f.Slots + 1)
+	blocks := 1 + s.Below(4)
+	for range blocks {
+		var b api.MBlock
+		for range s.Below(6) {
+			b.Code = append(b.Code, s.Mach(f.Regs, f.Slots))
+		}
+		b.Term = s.Term(f.Regs, blocks)
+		f.Blocks = append(f.Blocks, b)
+	}
+	return f
+}
+
 // WholeFunc returns a copy of f with the unused capacity of its slices.
 func WholeFunc(f api.Func) api.Func {
+	blocks := slices.Clone(f.Blocks[:cap(f.Blocks)])
+	for k, b := range blocks {
+		blocks[k].Code = slices.Clone(b.Code[:cap(b.Code)])
+	}
+	f.Blocks = blocks
+	return f
+}
+
+// WholeMFunc returns a copy of f with the unused capacity of its slices.
+func WholeMFunc(f api.MFunc) api.MFunc {
 	blocks := slices.Clone(f.Blocks[:cap(f.Blocks)])
 	for k, b := range blocks {
 		blocks[k].Code = slices.Clone(b.Code[:cap(b.Code)])

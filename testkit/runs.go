@@ -18,6 +18,22 @@ func CloneRun(r api.Run) api.Run {
 	return r
 }
 
+// Values returns n values, half of them small, with unused capacity.
+func (s *Numbers) Values(n int) []int64 {
+	l := make([]int64, n, n+6)
+	for k := range l {
+		if l[k] = int64(s.Below(5)) - 2; s.Below(2) == 0 {
+			l[k] = int64(s.Wide())
+		}
+	}
+	return l
+}
+
+// WholeValues returns a copy of l with its unused capacity.
+func WholeValues(l []int64) []int64 {
+	return slices.Clone(l[:cap(l)])
+}
+
 // SpoilRun changes the values in the slices of r and in their unused capacity, which shows in whatever shares its memory.
 func SpoilRun(r api.Run) {
 	for _, values := range [][]int64{r.Regs, r.Slots, r.Trace} {
