@@ -3,7 +3,6 @@ package pairset
 import (
 	"math"
 	"slices"
-	"sort"
 	"testing"
 
 	"regcert/api"
@@ -15,43 +14,12 @@ func p(v int, l api.Loc) api.Pair {
 	return api.Pair{V: v, L: l}
 }
 
-// edges returns pairs around 0, extreme ones, and those whose low bits are a small number, in their order.
-func edges() []api.Pair {
-	numbers := []int{math.MinInt, math.MinInt + 1, -1 << 32, -2, -1, 0, 1, 2, 1 << 32, 1<<32 + 1, math.MaxInt - 1, math.MaxInt}
-	var l []api.Pair
-	for _, v := range numbers {
-		for _, at := range numbers {
-			l = append(l, p(v, api.Loc(at)))
-		}
-	}
-	return l
-}
-
 // The pairs of the model's sets: the bit k of a mask stands for pair k.
 var universe = [...]api.Pair{{V: -1, L: 2}, {V: 0, L: -1}, {V: 0, L: 0}, {V: 0, L: 3}, {V: 1, L: 0}, {V: 2, L: 3}}
 
 // set returns the pairs of the mask in their order, with unused capacity.
 func set(mask int) []api.Pair {
-	l := make([]api.Pair, 0, len(universe)+3)
-	for k, q := range universe {
-		if mask>>k&1 == 1 {
-			l = append(l, q)
-		}
-	}
-	return l
-}
-
-// whole returns a copy of l with its unused capacity.
-func whole(l []api.Pair) []api.Pair {
-	return slices.Clone(l[:cap(l)])
-}
-
-// spoil changes all pairs of l and of its unused capacity, which shows in whatever shares its memory.
-func spoil(l []api.Pair) {
-	l = l[:cap(l)]
-	for k := range l {
-		l[k].V, l[k].L = ^l[k].V, ^l[k].L
-	}
+	return testkit.PairsOf(universe[:], mask)
 }
 
 // checkSet compares two lists of pairs.
@@ -60,25 +28,6 @@ func checkSet(t *testing.T, what string, l, want []api.Pair) {
 	if !slices.Equal(l, want) {
 		t.Errorf("%s: %v, want %v", what, l, want)
 	}
-}
-
-// ordered returns the pairs of l in ascending order, each once, by the wording of the definitions.
-func ordered(l []api.Pair) []api.Pair {
-	in := map[api.Pair]bool{}
-	var set []api.Pair
-	for _, q := range l {
-		if !in[q] {
-			set = append(set, q)
-		}
-		in[q] = true
-	}
-	sort.Slice(set, func(i, j int) bool {
-		if set[i].V != set[j].V {
-			return set[i].V < set[j].V
-		}
-		return set[i].L < set[j].L
-	})
-	return set
 }
 
 // lists calls f for all lists of at most n pairs from the universe. They have unused capacity.
@@ -110,7 +59,7 @@ func TestExamples(t *testing.T) {
 
 // P11.1: the order, by register and then by location, also of extreme numbers.
 func TestLess(t *testing.T) {
-	l := edges()
+	l := testkit.EdgePairs()
 	for i, a := range l {
 		for j, b := range l {
 			if got := Less(a, b); got != (i < j) {
@@ -123,7 +72,7 @@ func TestLess(t *testing.T) {
 // P11.1: Sorted, for all short lists.
 func TestSortedShort(t *testing.T) {
 	lists(5, func(l []api.Pair) {
-		if got, want := Sorted(l), slices.Equal(l, ordered(l)); got != want {
+		if got, want := Sorted(l), slices.Equal(l, testkit.OrderedPairs(l)); got != want {
 			t.Errorf("Sorted(%v) = %v", l, got)
 		}
 	})
@@ -134,7 +83,7 @@ func TestSortedShort(t *testing.T) {
 
 // P11.1: Sorted, for a long list with two equal pairs or two in the wrong order anywhere.
 func TestSortedLong(t *testing.T) {
-	l := edges()
+	l := testkit.EdgePairs()
 	if !Sorted(l) {
 		t.Error("ascending list")
 	}
@@ -156,7 +105,7 @@ func TestMakeShort(t *testing.T) {
 	checkSet(t, "Make of no pairs", Make(), nil)
 	checkSet(t, "Make of an empty slice", Make([]api.Pair{}...), nil)
 	lists(5, func(l []api.Pair) {
-		if got, want := Make(l...), ordered(l); !slices.Equal(got, want) {
+		if got, want := Make(l...), testkit.OrderedPairs(l); !slices.Equal(got, want) {
 			t.Errorf("Make of %v: %v, want %v", l, got, want)
 		}
 	})
@@ -164,7 +113,7 @@ func TestMakeShort(t *testing.T) {
 
 // P11.1: Make, for long lists with few and with many pairs that occur again.
 func TestMakeLong(t *testing.T) {
-	from := edges()
+	from := testkit.EdgePairs()
 	s := testkit.Numbers(1)
 	for range 500 {
 		l := make([]api.Pair, s.Below(300))
@@ -172,7 +121,7 @@ func TestMakeLong(t *testing.T) {
 		for k := range l {
 			l[k] = from[s.Below(most)]
 		}
-		if got, want := Make(l...), ordered(l); !slices.Equal(got, want) {
+		if got, want := Make(l...), testkit.OrderedPairs(l); !slices.Equal(got, want) {
 			t.Errorf("Make of %v: %v, want %v", l, got, want)
 		}
 	}
@@ -197,7 +146,7 @@ func TestHasAdd(t *testing.T) {
 				checkHasAdd(t, l, p(v, at))
 			}
 		}
-		for _, q := range edges() {
+		for _, q := range testkit.EdgePairs() {
 			checkHasAdd(t, l, q)
 		}
 	}
@@ -209,12 +158,12 @@ func checkHasAdd(t *testing.T, l []api.Pair, q api.Pair) {
 	if got, want := Has(l, q), slices.Contains(l, q); got != want {
 		t.Errorf("Has(%v, %v) = %v", l, q, got)
 	}
-	checkSet(t, "Add", Add(l, q), ordered(append(slices.Clone(l), q)))
+	checkSet(t, "Add", Add(l, q), testkit.OrderedPairs(append(slices.Clone(l), q)))
 }
 
 // P11.2: Has finds every pair of a long set and none between them.
 func TestHasLong(t *testing.T) {
-	l := edges()
+	l := testkit.EdgePairs()
 	for k, q := range l {
 		without := slices.Delete(slices.Clone(l), k, k+1)
 		if !Has(l, q) || Has(without, q) {
@@ -245,7 +194,7 @@ func TestTwoSets(t *testing.T) {
 
 // P11.2, P11.4: the same for parts of a long set, also where one of them is empty, or ends before the other one begins.
 func TestTwoLongSets(t *testing.T) {
-	all := edges()
+	all := testkit.EdgePairs()
 	s := testkit.Numbers(2)
 	for range 2000 {
 		var a, b, either, only []api.Pair
@@ -324,7 +273,7 @@ func TestDrop(t *testing.T) {
 			checkDrops(t, l, v)
 		}
 	})
-	all := edges()
+	all := testkit.EdgePairs()
 	for _, v := range testkit.Around(3) {
 		checkDrops(t, all, v)
 		checkDrops(t, append(slices.Clone(all), all...), v)
@@ -339,7 +288,7 @@ func TestDrop(t *testing.T) {
 // P11.5: sets that are built in different ways are equal.
 func TestBuilt(t *testing.T) {
 	s := testkit.Numbers(3)
-	from := edges()
+	from := testkit.EdgePairs()
 	for range 300 {
 		l := make([]api.Pair, s.Below(40))
 		for k := range l {
@@ -376,10 +325,10 @@ func results(a, b []api.Pair, q api.Pair, f func(what string, call func() []api.
 // checkMemory checks that no function modifies its arguments or shares memory with them.
 func checkMemory(t *testing.T, a, b []api.Pair, q api.Pair) {
 	t.Helper()
-	wholeA, wholeB := whole(a), whole(b)
+	wholeA, wholeB := testkit.WholePairs(a), testkit.WholePairs(b)
 	unchanged := func(what string) {
 		t.Helper()
-		if !slices.Equal(whole(a), wholeA) || !slices.Equal(whole(b), wholeB) {
+		if !slices.Equal(testkit.WholePairs(a), wholeA) || !slices.Equal(testkit.WholePairs(b), wholeB) {
 			t.Fatalf("%s of %v, %v and %v changes an argument", what, wholeA, wholeB, q)
 		}
 	}
@@ -387,14 +336,14 @@ func checkMemory(t *testing.T, a, b []api.Pair, q api.Pair) {
 		l := call()
 		unchanged(what)
 		kept := slices.Clone(l)
-		spoil(a)
-		spoil(b)
+		testkit.SpoilPairs(a)
+		testkit.SpoilPairs(b)
 		if !slices.Equal(l, kept) {
 			t.Errorf("%s shares memory with an argument", what)
 		}
-		spoil(a)
-		spoil(b)
-		spoil(l)
+		testkit.SpoilPairs(a)
+		testkit.SpoilPairs(b)
+		testkit.SpoilPairs(l)
 		unchanged(what + ", by a change of the result,")
 	})
 	Sorted(a)
@@ -424,11 +373,11 @@ func TestMemory(t *testing.T) {
 // checkUnsorted checks Make, DropV, DropL and Sorted like checkMemory, for a list that may be no pair set.
 func checkUnsorted(t *testing.T, l []api.Pair) {
 	t.Helper()
-	before := whole(l)
+	before := testkit.WholePairs(l)
 	Sorted(l)
 	for _, r := range [][]api.Pair{Make(l...), DropV(l, 0), DropV(l, 9), DropL(l, 0), DropL(l, 9)} {
-		spoil(r)
-		if !slices.Equal(whole(l), before) {
+		testkit.SpoilPairs(r)
+		if !slices.Equal(testkit.WholePairs(l), before) {
 			t.Fatalf("%v is changed", before)
 		}
 	}
