@@ -8,8 +8,8 @@ import (
 	"regcert/api"
 )
 
-// instrUses returns the fields that instructions with the opcode use, by the table of layer 5, with I for Imm, and whether it is a source opcode.
-func instrUses(op int) (string, bool) {
+// InstrUses returns the fields that instructions with the opcode use, by the table of layer 5, with I for Imm, and whether it is a source opcode.
+func InstrUses(op int) (string, bool) {
 	switch {
 	case op == 1:
 		return "D I", true
@@ -43,7 +43,7 @@ func outside(v, n int) bool {
 
 // InstrError is what layer 7 must find wrong with an instruction, by the wording of P7.1.
 func InstrError(i api.Instr, regs int) api.Errno {
-	uses, ok := instrUses(i.Op)
+	uses, ok := InstrUses(i.Op)
 	if !ok {
 		return api.ErrOpcode
 	}
@@ -93,7 +93,7 @@ func Opcodes() []int {
 // Instr returns a valid instruction for a positive number of registers.
 func (s *Numbers) Instr(regs int) api.Instr {
 	i := api.Instr{Op: 1 + s.Below(17)}
-	uses, _ := instrUses(i.Op)
+	uses, _ := InstrUses(i.Op)
 	if strings.Contains(uses, "D") {
 		i.D = s.Below(regs)
 	}
