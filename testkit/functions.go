@@ -23,8 +23,8 @@ func InstrUses(op int) (string, bool) {
 	return "", false
 }
 
-// termUses returns the fields that terminators of the kind use, and whether there are such terminators.
-func termUses(kind int) (string, bool) {
+// TermUses returns the fields that terminators of the kind use, and whether there are such terminators.
+func TermUses(kind int) (string, bool) {
 	switch kind {
 	case 1:
 		return "To", true
@@ -59,7 +59,7 @@ func InstrError(i api.Instr, regs int) api.Errno {
 
 // TermError is what layer 7 must find wrong with a terminator, by the wording of P7.2.
 func TermError(t api.Term, regs, blocks int) api.Errno {
-	uses, ok := termUses(t.Kind)
+	uses, ok := TermUses(t.Kind)
 	if !ok {
 		return api.ErrTerm
 	}
