@@ -68,7 +68,7 @@ func TestFuncTable(t *testing.T) {
 	manyBytes := []byte{0, 0, 200, 1}
 	for k := range many {
 		many[k].Term = api.Term{Kind: 1, To: 199 - k}
-		manyBytes = append(append(manyBytes, 0, 1), digits(199-k)...)
+		manyBytes = append(append(manyBytes, 0, 1), testkit.Digits(199-k)...)
 	}
 	for _, x := range []struct {
 		f    api.Func
@@ -102,7 +102,7 @@ func TestMFuncTable(t *testing.T) {
 	manyBytes := []byte{0, 0, 0, 200, 1}
 	for k := range many {
 		many[k].Term = api.Term{Kind: 1, To: 199 - k}
-		manyBytes = append(append(manyBytes, 0, 1), digits(199-k)...)
+		manyBytes = append(append(manyBytes, 0, 1), testkit.Digits(199-k)...)
 	}
 	for _, x := range []struct {
 		f    api.MFunc
@@ -153,7 +153,7 @@ func TestFuncErrors(t *testing.T) {
 		{[]byte{128}, api.ErrShort},
 		{[]byte{128, 0}, api.ErrVarint},
 		{[]byte{129, 128, 64}, api.ErrLimit}, // 2^20 + 1
-		{digits(1<<32 + 1), api.ErrLimit},
+		{testkit.Digits(1<<32 + 1), api.ErrLimit},
 		{[]byte{255, 255, 127}, api.ErrLimit},     // 2^21 - 1
 		{[]byte{129, 128, 64, 0}, api.ErrLimit},   // rather than the ErrReg
 		{[]byte{129, 128, 64, 128}, api.ErrLimit}, // rather than the ErrShort
@@ -165,7 +165,7 @@ func TestFuncErrors(t *testing.T) {
 		{[]byte{2, 1}, api.ErrReg},                 // rather than the ErrShort
 		{[]byte{1, 0, 128, 0}, api.ErrReg},         // rather than the ErrVarint
 		{[]byte{2, 1, 0}, api.ErrReg},              // rather than the ErrCount
-		{digits(1<<20, 1<<20-1), api.ErrReg},
+		{testkit.Digits(1<<20, 1<<20-1), api.ErrReg},
 		// The number of blocks.
 		{[]byte{0, 1}, api.ErrShort},
 		{[]byte{0, 1, 129, 0}, api.ErrVarint},
@@ -177,13 +177,13 @@ func TestFuncErrors(t *testing.T) {
 		{[]byte{0, 1, 2, 0, 3, 0, 0, 9}, api.ErrShort},
 		{[]byte{0, 1, 2, 0, 3, 0, 0, 9, 0}, api.ErrTerm}, // now they suffice
 		{[]byte{0, 1, 3, 0, 9, 0, 0, 9, 0, 0, 9}, api.ErrShort},
-		{join([]byte{0, 1}, digits(1<<20)), api.ErrShort},
-		{join([]byte{0, 1}, digits(1<<20), make([]byte, 3<<20-1)), api.ErrShort},
-		{join([]byte{0, 1}, digits(1<<20), make([]byte, 3<<20)), api.ErrTerm},
-		{join([]byte{0, 1}, digits(1<<20+1), make([]byte, 4<<20)), api.ErrLimit},
-		{join([]byte{0, 1}, digits(1<<20+1)), api.ErrLimit}, // rather than the ErrShort
-		{join([]byte{0, 1}, digits(math.MaxInt)), api.ErrLimit},
-		{join([]byte{0, 1}, digits(1<<32), []byte{0, 3, 0}), api.ErrLimit},
+		{join([]byte{0, 1}, testkit.Digits(1<<20)), api.ErrShort},
+		{join([]byte{0, 1}, testkit.Digits(1<<20), make([]byte, 3<<20-1)), api.ErrShort},
+		{join([]byte{0, 1}, testkit.Digits(1<<20), make([]byte, 3<<20)), api.ErrTerm},
+		{join([]byte{0, 1}, testkit.Digits(1<<20+1), make([]byte, 4<<20)), api.ErrLimit},
+		{join([]byte{0, 1}, testkit.Digits(1<<20+1)), api.ErrLimit}, // rather than the ErrShort
+		{join([]byte{0, 1}, testkit.Digits(math.MaxInt)), api.ErrLimit},
+		{join([]byte{0, 1}, testkit.Digits(1<<32), []byte{0, 3, 0}), api.ErrLimit},
 		{[]byte{0, 1, 128, 128, 192, 0}, api.ErrVarint},
 		{[]byte{3, 2, 129, 128, 64}, api.ErrReg},
 		{[]byte{0, 1, 1, 1, 17}, api.ErrShort},
@@ -243,12 +243,12 @@ func TestMFuncErrors(t *testing.T) {
 		{[]byte{0, 0, 129, 128, 64}, api.ErrLimit},
 		{[]byte{1, 129, 128, 64, 0}, api.ErrLimit},   // rather than the ErrLoc
 		{[]byte{129, 128, 64, 128, 0}, api.ErrLimit}, // rather than the ErrVarint
-		{digits(0, 1<<32+1, 0, 1, 0, 1), api.ErrLimit},
+		{testkit.Digits(0, 1<<32+1, 0, 1, 0, 1), api.ErrLimit},
 		{[]byte{1, 1, 0}, api.ErrLoc},
 		{[]byte{1, 0, 0}, api.ErrLoc},
 		{[]byte{3, 5, 2, 128, 0}, api.ErrLoc},
 		{[]byte{3, 5, 2, 0}, api.ErrLoc},
-		{digits(1<<20, 1<<20, 1<<20-1), api.ErrLoc},
+		{testkit.Digits(1<<20, 1<<20, 1<<20-1), api.ErrLoc},
 		// The number of blocks.
 		{[]byte{1, 1, 1}, api.ErrShort},
 		{[]byte{1, 1, 1, 0}, api.ErrCount},
@@ -258,12 +258,12 @@ func TestMFuncErrors(t *testing.T) {
 		{[]byte{0, 1, 0, 1, 9, 9}, api.ErrShort},
 		{[]byte{0, 1, 0, 2, 0, 9, 0, 0, 3}, api.ErrShort},
 		{[]byte{0, 1, 0, 2, 0, 9, 0, 0, 3, 0}, api.ErrTerm},
-		{join([]byte{0, 1, 0}, digits(1<<20)), api.ErrShort},
-		{join([]byte{0, 1, 0}, digits(1<<20), make([]byte, 3<<20-1)), api.ErrShort},
-		{join([]byte{0, 1, 0}, digits(1<<20), make([]byte, 3<<20)), api.ErrTerm},
-		{join([]byte{0, 1, 0}, digits(1<<20+1), make([]byte, 4<<20)), api.ErrLimit},
-		{join([]byte{0, 1, 0}, digits(1<<20+1)), api.ErrLimit},
-		{join([]byte{0, 1, 0}, digits(math.MaxInt)), api.ErrLimit},
+		{join([]byte{0, 1, 0}, testkit.Digits(1<<20)), api.ErrShort},
+		{join([]byte{0, 1, 0}, testkit.Digits(1<<20), make([]byte, 3<<20-1)), api.ErrShort},
+		{join([]byte{0, 1, 0}, testkit.Digits(1<<20), make([]byte, 3<<20)), api.ErrTerm},
+		{join([]byte{0, 1, 0}, testkit.Digits(1<<20+1), make([]byte, 4<<20)), api.ErrLimit},
+		{join([]byte{0, 1, 0}, testkit.Digits(1<<20+1)), api.ErrLimit},
+		{join([]byte{0, 1, 0}, testkit.Digits(math.MaxInt)), api.ErrLimit},
 		// The numbers of instructions.
 		{[]byte{0, 1, 0, 1, 129, 0, 0}, api.ErrVarint},
 		{[]byte{0, 1, 0, 1, 129, 128, 64, 0}, api.ErrLimit},
@@ -307,7 +307,7 @@ func moves(n int) []byte {
 
 // withMoves is the encoding of an allocated function with a register, a slot and a block of n instructions.
 func withMoves(n int, parts ...[]byte) []byte {
-	return join([]byte{0, 1, 1, 1}, digits(n), join(parts...))
+	return join([]byte{0, 1, 1, 1}, testkit.Digits(n), join(parts...))
 }
 
 // P18.3: ErrMoves is the error of the first move that follows 64 others, rather than one of what is behind it.
@@ -353,14 +353,14 @@ func TestMoves(t *testing.T) {
 		readMFunc(t, x.b, f, n, e)
 	}
 	// Each block has moves of its own.
-	half := join(digits(64), moves(64), []byte{1, 1})
-	readModel := join([]byte{0, 1, 1, 2}, half, digits(64), moves(64), end)
+	half := join(testkit.Digits(64), moves(64), []byte{1, 1})
+	readModel := join([]byte{0, 1, 1, 2}, half, testkit.Digits(64), moves(64), end)
 	f, n, e := mfuncModel(readModel)
 	if e != api.OK {
 		t.Fatal(e)
 	}
 	readMFunc(t, readModel, f, n, api.OK)
-	failMFunc(t, join([]byte{0, 1, 1, 2}, half, digits(65), moves(65), end), api.ErrMoves)
+	failMFunc(t, join([]byte{0, 1, 1, 2}, half, testkit.Digits(65), moves(65), end), api.ErrMoves)
 }
 
 // P18.2, P18.3: if the cursor has an error, nothing is read, and it stays as it is.

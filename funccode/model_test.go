@@ -6,6 +6,7 @@ import (
 	"regcert/api"
 	"regcert/cursor"
 	"regcert/instrcode"
+	"regcert/testkit"
 	"regcert/varint"
 )
 
@@ -20,23 +21,11 @@ func funcOut(f api.Func) []byte { return written(func(w *cursor.Writer) { PutFun
 
 func mfuncOut(f api.MFunc) []byte { return written(func(w *cursor.Writer) { PutMFunc(w, f) }) }
 
-// digits is the encodings of the numbers, one after the other, by the wording of layer 1.
-func digits(numbers ...int) []byte {
-	var b []byte
-	for _, n := range numbers {
-		for ; n >= 128; n /= 128 {
-			b = append(b, byte(n%128)+128)
-		}
-		b = append(b, byte(n))
-	}
-	return b
-}
-
 // funcBytes is the encoding of f by the wording of the definition.
 func funcBytes(f api.Func) []byte {
-	b := digits(f.Args, f.Regs, len(f.Blocks))
+	b := testkit.Digits(f.Args, f.Regs, len(f.Blocks))
 	for _, block := range f.Blocks {
-		b = append(b, digits(len(block.Code))...)
+		b = append(b, testkit.Digits(len(block.Code))...)
 		for _, i := range block.Code {
 			b = append(b, written(func(w *cursor.Writer) { instrcode.PutInstr(w, i) })...)
 		}
@@ -47,9 +36,9 @@ func funcBytes(f api.Func) []byte {
 
 // mfuncBytes is the encoding of f by the wording of the definition.
 func mfuncBytes(f api.MFunc) []byte {
-	b := digits(f.Args, f.Regs, f.Slots, len(f.Blocks))
+	b := testkit.Digits(f.Args, f.Regs, f.Slots, len(f.Blocks))
 	for _, block := range f.Blocks {
-		b = append(b, digits(len(block.Code))...)
+		b = append(b, testkit.Digits(len(block.Code))...)
 		for _, i := range block.Code {
 			b = append(b, written(func(w *cursor.Writer) { instrcode.PutMach(w, i) })...)
 		}

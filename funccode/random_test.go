@@ -78,7 +78,7 @@ func TestRandom(t *testing.T) {
 			failMFunc(t, mb[:k], api.ErrShort)
 		}
 		for range 10 {
-			fb, mb := damaged(&s, fb), damaged(&s, mb)
+			fb, mb := s.Damaged(fb), s.Damaged(mb)
 			seen[compareFunc(t, fb)]++
 			seen[compareMFunc(t, mb)]++
 			compareFunc(t, mb)
@@ -92,33 +92,6 @@ func TestRandom(t *testing.T) {
 	}
 }
 
-// damaged returns b with one or two changes that may make it wrong, or not.
-func damaged(s *testkit.Numbers, b []byte) []byte {
-	b = slices.Clone(b)
-	for range 1 + s.Below(2) {
-		at := s.Below(len(b))
-		switch s.Below(7) {
-		case 0:
-			b[at] = byte(s.Below(256))
-		case 1:
-			b[at] ^= 1 << s.Below(8)
-		case 2:
-			b = slices.Insert(b, at, byte(s.Below(20)))
-		case 3:
-			// At least one byte is left for the next change.
-			b = slices.Delete(b, at, at+min(1, len(b)-1))
-		case 4:
-			b[at] |= 128
-			b = slices.Insert(b, at+1, 0)
-		case 5:
-			b = slices.Replace(b, at, at+1, digits(int(s.Wide()>>1))...)
-		case 6:
-			b = b[:at+1]
-		}
-	}
-	return b
-}
-
 // P18.3: random blocks of moves, often more than MaxMoves in a row, with errors between them.
 func TestRandomMoves(t *testing.T) {
 	s := testkit.Numbers(1818)
@@ -127,7 +100,7 @@ func TestRandomMoves(t *testing.T) {
 		b := []byte{0, 1, 1, 2}
 		for range 2 {
 			n := 60 + s.Below(90)
-			b = append(b, digits(n)...)
+			b = append(b, testkit.Digits(n)...)
 			other, wrong := s.Below(n), s.Below(5*n)
 			for k := range n {
 				switch k {
@@ -181,9 +154,9 @@ func TestSequence(t *testing.T) {
 
 // limited is the encoding of a function that begins with these bytes, and whose blocks have these numbers of instructions.
 func limited(begin []byte, counts ...int) []byte {
-	b := join(begin, digits(len(counts)))
+	b := join(begin, testkit.Digits(len(counts)))
 	for _, n := range counts {
-		b = join(b, digits(n), bytes.Repeat([]byte{17, 0}, n), []byte{3, 0})
+		b = join(b, testkit.Digits(n), bytes.Repeat([]byte{17, 0}, n), []byte{3, 0})
 	}
 	return b
 }
@@ -204,7 +177,7 @@ func TestLimits(t *testing.T) {
 		failMFunc(t, limited(mfuncBegin, counts...), api.ErrLimit)
 	}
 	blocks := bytes.Repeat([]byte{0, 3, 0}, limit)
-	for _, e := range []api.Errno{compareFunc(t, join(funcBegin, digits(limit), blocks)), compareMFunc(t, join(mfuncBegin, digits(limit), blocks))} {
+	for _, e := range []api.Errno{compareFunc(t, join(funcBegin, testkit.Digits(limit), blocks)), compareMFunc(t, join(mfuncBegin, testkit.Digits(limit), blocks))} {
 		if e != api.OK {
 			t.Errorf("the error for 2^20 blocks is %d", e)
 		}
@@ -219,7 +192,7 @@ func TestLimitOrder(t *testing.T) {
 		if len(begin) == 3 {
 			fail = failMFunc
 		}
-		first := join(begin, digits(3, 1<<20), full)
+		first := join(begin, testkit.Digits(3, 1<<20), full)
 		fail(t, join(first, []byte{1, 0, 0}), api.ErrLimit)
 		fail(t, join(first, []byte{1, 0, 0, 9, 9, 9}), api.ErrLimit)
 		fail(t, join(first, []byte{1, 17}), api.ErrShort)
@@ -227,7 +200,7 @@ func TestLimitOrder(t *testing.T) {
 		fail(t, join(first, []byte{0, 9, 0, 1, 17, 0}), api.ErrTerm)
 		fail(t, join(first, []byte{0, 3, 0, 1, 17, 0}), api.ErrLimit)
 		fail(t, join(first, []byte{0, 3, 0, 0, 9, 0}), api.ErrTerm)
-		wrong := join(begin, digits(3, 1<<20), full[:len(full)-4], []byte{17, 1, 3, 0}, []byte{1, 17, 0, 3, 0})
+		wrong := join(begin, testkit.Digits(3, 1<<20), full[:len(full)-4], []byte{17, 1, 3, 0}, []byte{1, 17, 0, 3, 0})
 		fail(t, wrong, api.ErrReg)
 	}
 }
@@ -236,17 +209,17 @@ func TestLimitOrder(t *testing.T) {
 func TestCounts(t *testing.T) {
 	for n := 1; n < 300; n++ {
 		tail := make([]byte, 3*n-1)
-		failFunc(t, join([]byte{0, 1}, digits(n), tail), api.ErrShort)
-		failMFunc(t, join([]byte{0, 1, 0}, digits(n), tail), api.ErrShort)
+		failFunc(t, join([]byte{0, 1}, testkit.Digits(n), tail), api.ErrShort)
+		failMFunc(t, join([]byte{0, 1, 0}, testkit.Digits(n), tail), api.ErrShort)
 		tail = append(tail, 0)
-		failFunc(t, join([]byte{0, 1}, digits(n), tail), api.ErrTerm)
-		failMFunc(t, join([]byte{0, 1, 0}, digits(n), tail), api.ErrTerm)
+		failFunc(t, join([]byte{0, 1}, testkit.Digits(n), tail), api.ErrTerm)
+		failMFunc(t, join([]byte{0, 1, 0}, testkit.Digits(n), tail), api.ErrTerm)
 		code := make([]byte, max(2*n, 3))
-		failFunc(t, join([]byte{0, 1, 1}, digits(n), code), api.ErrOpcode)
-		failMFunc(t, join([]byte{0, 1, 0, 1}, digits(n), code), api.ErrOpcode)
+		failFunc(t, join([]byte{0, 1, 1}, testkit.Digits(n), code), api.ErrOpcode)
+		failMFunc(t, join([]byte{0, 1, 0, 1}, testkit.Digits(n), code), api.ErrOpcode)
 		code = code[:2*n-1]
-		failFunc(t, join([]byte{0, 1, 1}, digits(n), code), api.ErrShort)
-		failMFunc(t, join([]byte{0, 1, 0, 1}, digits(n), code), api.ErrShort)
+		failFunc(t, join([]byte{0, 1, 1}, testkit.Digits(n), code), api.ErrShort)
+		failMFunc(t, join([]byte{0, 1, 0, 1}, testkit.Digits(n), code), api.ErrShort)
 	}
 }
 
@@ -254,7 +227,7 @@ func TestCounts(t *testing.T) {
 func TestAllocation(t *testing.T) {
 	for _, n := range []int{200, 1 << 20} {
 		for _, begin := range [][]byte{{0, 1}, {0, 1, 1}, {0, 1, 0}, {0, 1, 0, 1}} {
-			b := join(begin, digits(n), make([]byte, 100))
+			b := join(begin, testkit.Digits(n), make([]byte, 100))
 			var before, after runtime.MemStats
 			runtime.ReadMemStats(&before)
 			for range 100 {

@@ -9,16 +9,6 @@ import (
 	"regcert/varint"
 )
 
-// digits is the encoding of v by the wording of layer 1.
-func digits(v uint64) []byte {
-	var b []byte
-	for v >= 128 {
-		b = append(b, byte(v%128)+128)
-		v /= 128
-	}
-	return append(b, byte(v))
-}
-
 // zigzag is the zigzag code of n by the wording of layer 1.
 func zigzag(n int64) uint64 {
 	if n >= 0 {
@@ -32,16 +22,16 @@ func instrBytes(i api.Instr) []byte {
 	uses, _ := testkit.InstrUses(i.Op)
 	b := []byte{byte(i.Op)}
 	if strings.Contains(uses, "D") {
-		b = append(b, digits(uint64(i.D))...)
+		b = append(b, testkit.Digits(uint64(i.D))...)
 	}
 	if strings.Contains(uses, "A") {
-		b = append(b, digits(uint64(i.A))...)
+		b = append(b, testkit.Digits(uint64(i.A))...)
 	}
 	if strings.Contains(uses, "B") {
-		b = append(b, digits(uint64(i.B))...)
+		b = append(b, testkit.Digits(uint64(i.B))...)
 	}
 	if strings.Contains(uses, "I") {
-		b = append(b, digits(zigzag(i.Imm))...)
+		b = append(b, testkit.Digits(zigzag(i.Imm))...)
 	}
 	return b
 }
@@ -49,7 +39,7 @@ func instrBytes(i api.Instr) []byte {
 // machBytes is the encoding of i by the wording of the definition.
 func machBytes(i api.Mach) []byte {
 	if i.Op == 18 {
-		return append(append([]byte{18}, digits(uint64(i.Dst))...), digits(uint64(i.Src))...)
+		return append(append([]byte{18}, testkit.Digits(uint64(i.Dst))...), testkit.Digits(uint64(i.Src))...)
 	}
 	return instrBytes(api.Instr{Op: i.Op, D: i.D, A: i.A, B: i.B, Imm: i.Imm})
 }
@@ -58,11 +48,11 @@ func machBytes(i api.Mach) []byte {
 func termBytes(t api.Term) []byte {
 	switch t.Kind {
 	case 1:
-		return append([]byte{1}, digits(uint64(t.To))...)
+		return append([]byte{1}, testkit.Digits(uint64(t.To))...)
 	case 2:
-		return append(append(append([]byte{2}, digits(uint64(t.A))...), digits(uint64(t.To))...), digits(uint64(t.Else))...)
+		return append(append(append([]byte{2}, testkit.Digits(uint64(t.A))...), testkit.Digits(uint64(t.To))...), testkit.Digits(uint64(t.Else))...)
 	}
-	return append([]byte{3}, digits(uint64(t.A))...)
+	return append([]byte{3}, testkit.Digits(uint64(t.A))...)
 }
 
 // instrModel is what reading an instruction at the beginning of b must result in, by the wording of P17.2, with its length.

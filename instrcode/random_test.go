@@ -94,7 +94,7 @@ func edges() []uint64 {
 func TestEdgeFields(t *testing.T) {
 	for _, v := range edges() {
 		for _, n := range []int{0, 1, 2, 128, 129, 1<<14 + 1, api.Limit - 1, api.Limit} {
-			field := digits(v)
+			field := testkit.Digits(v)
 			for _, b := range [][]byte{
 				join(1, field, []byte{0}), join(1, []byte{0}, field),
 				join(5, field, []byte{0, 0}), join(5, []byte{0}, field, []byte{0}), join(5, []byte{0, 0}, field),
@@ -142,28 +142,6 @@ func TestAllSmall(t *testing.T) {
 	}
 }
 
-// damaged returns b with a change that may make it wrong, or not.
-func damaged(s *testkit.Numbers, b []byte) []byte {
-	b = slices.Clone(b)
-	at := s.Below(len(b))
-	switch s.Below(6) {
-	case 0:
-		b[at] = byte(s.Below(256))
-	case 1:
-		return b[:at]
-	case 2:
-		return slices.Insert(b, at, byte(s.Below(256)))
-	case 3:
-		return slices.Delete(b, at, at+1)
-	case 4:
-		b[at] |= 128
-		return slices.Insert(b, at+1, 0)
-	case 5:
-		return slices.Replace(b, at, at+1, digits(s.Wide())...)
-	}
-	return b
-}
-
 // P17.1, P17.2, P17.3: random instructions and terminators, and their encodings with damages, cut off anywhere.
 func TestRandom(t *testing.T) {
 	s := testkit.Numbers(17)
@@ -188,7 +166,7 @@ func TestRandom(t *testing.T) {
 			readTerm(t, we[:k], regs, others, api.Term{}, 0, api.ErrShort)
 		}
 		for _, b := range [][]byte{wi, wm, we} {
-			b = damaged(&s, b)
+			b = s.Damaged(b)
 			compareInstr(t, b, regs)
 			compareMach(t, b, regs, others)
 			compareTerm(t, b, regs, others)
