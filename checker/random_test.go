@@ -210,45 +210,18 @@ func TestSubsets(t *testing.T) {
 	}
 }
 
-// withRoom returns c with elements behind the ends of all slices.
-func withRoom(c api.Cert) api.Cert {
-	c.S.Blocks, c.T.Blocks, c.W = slices.Clone(c.S.Blocks), slices.Clone(c.T.Blocks), slices.Clone(c.W)
-	for k, b := range c.S.Blocks {
-		c.S.Blocks[k].Code = append(slices.Clone(b.Code), instr(9, 1, 1, 1))[:len(b.Code)]
-	}
-	for k, b := range c.T.Blocks {
-		c.T.Blocks[k].Code = append(slices.Clone(b.Code), move(2, 2))[:len(b.Code)]
-	}
-	for k, l := range c.W {
-		c.W[k] = append(slices.Clone(l), p(7, 7), p(8, 8))[:len(l)]
-	}
-	c.S.Blocks = append(c.S.Blocks, block(jump(9)))[:len(c.S.Blocks)]
-	c.T.Blocks = append(c.T.Blocks, mblock(jump(9)))[:len(c.T.Blocks)]
-	c.W = append(c.W, set(p(9, 9)))[:len(c.W)]
-	return c
-}
-
-// whole returns a copy of c with the unused capacity of its slices.
-func whole(c api.Cert) api.Cert {
-	w := slices.Clone(c.W[:cap(c.W)])
-	for k, l := range w {
-		w[k] = testkit.WholePairs(l)
-	}
-	return api.Cert{S: testkit.WholeFunc(c.S), T: testkit.WholeMFunc(c.T), W: w}
-}
-
 // P16.6: arguments and their unused capacity are not modified.
 func TestMemory(t *testing.T) {
 	certificates(6, 5000, func(_ *testkit.Numbers, c api.Cert) {
-		c = withRoom(c)
-		before, r := whole(c), Check(c)
+		c = testkit.RoomyCert(c)
+		before, r := testkit.WholeCert(c), Check(c)
 		Valid(c)
 		Bound(c, 5)
 		if again := Check(c); again != r {
 			t.Errorf("%+v: first %+v, then %+v", before, r, again)
 		}
-		if !reflect.DeepEqual(whole(c), before) {
-			t.Errorf("%+v has changed to %+v", before, whole(c))
+		if !reflect.DeepEqual(testkit.WholeCert(c), before) {
+			t.Errorf("%+v has changed to %+v", before, testkit.WholeCert(c))
 		}
 	})
 }

@@ -21,7 +21,7 @@ func readFunc(t *testing.T, b []byte, want api.Func, wantAt int, wantErr api.Err
 	t.Helper()
 	c := cursor.New(b)
 	got := Func(c)
-	if !sameFunc(got, want) || c.Err() != wantErr || wantErr == api.OK && c.At() != wantAt {
+	if !testkit.SameFunc(got, want) || c.Err() != wantErr || wantErr == api.OK && c.At() != wantAt {
 		t.Errorf("Func of %v = %+v, error %d, offset %d, want %+v, %d, %d", shown(b), got, c.Err(), c.At(), want, wantErr, wantAt)
 	}
 }
@@ -31,7 +31,7 @@ func readMFunc(t *testing.T, b []byte, want api.MFunc, wantAt int, wantErr api.E
 	t.Helper()
 	c := cursor.New(b)
 	got := MFunc(c)
-	if !sameMFunc(got, want) || c.Err() != wantErr || wantErr == api.OK && c.At() != wantAt {
+	if !testkit.SameMFunc(got, want) || c.Err() != wantErr || wantErr == api.OK && c.At() != wantAt {
 		t.Errorf("MFunc of %v = %+v, error %d, offset %d, want %+v, %d, %d", shown(b), got, c.Err(), c.At(), want, wantErr, wantAt)
 	}
 }
@@ -371,11 +371,11 @@ func TestFailed(t *testing.T) {
 		c.Byte()
 		c.Fail(e)
 		f, m := Func(c), MFunc(c)
-		if !sameFunc(f, api.Func{}) || !sameMFunc(m, api.MFunc{}) || c.Err() != e || c.At() != 1 {
+		if !testkit.SameFunc(f, api.Func{}) || !testkit.SameMFunc(m, api.MFunc{}) || c.Err() != e || c.At() != 1 {
 			t.Errorf("%+v and %+v are read after the error %d, then the error is %d, and the offset %d", f, m, e, c.Err(), c.At())
 		}
 	}
-	if f, m := Func(nil), MFunc(nil); !sameFunc(f, api.Func{}) || !sameMFunc(m, api.MFunc{}) {
+	if f, m := Func(nil), MFunc(nil); !testkit.SameFunc(f, api.Func{}) || !testkit.SameMFunc(m, api.MFunc{}) {
 		t.Errorf("%+v and %+v are read from a nil cursor", f, m)
 	}
 	PutFunc(nil, api.Func{Regs: 1, Blocks: []api.Block{{Code: []api.Instr{{Op: 17}}, Term: returns0}}})

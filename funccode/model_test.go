@@ -1,8 +1,6 @@
 package funccode
 
 import (
-	"slices"
-
 	"regcert/api"
 	"regcert/cursor"
 	"regcert/instrcode"
@@ -188,18 +186,4 @@ func mblockModel(b []byte, f api.MFunc, blocks int, sum *int) (api.MBlock, int, 
 	term, n, e := part(b[at:], func(c *cursor.Cursor) api.Term { return instrcode.Term(c, f.Regs, blocks) })
 	block.Term = term
 	return block, at + n, e
-}
-
-// sameFunc reports whether a and b are the same function. Nil and empty slices are the same.
-func sameFunc(a, b api.Func) bool {
-	return a.Args == b.Args && a.Regs == b.Regs && slices.EqualFunc(a.Blocks, b.Blocks, func(p, q api.Block) bool {
-		return p.Term == q.Term && slices.Equal(p.Code, q.Code)
-	})
-}
-
-// sameMFunc reports whether a and b are the same allocated function.
-func sameMFunc(a, b api.MFunc) bool {
-	return a.Args == b.Args && a.Regs == b.Regs && a.Slots == b.Slots && slices.EqualFunc(a.Blocks, b.Blocks, func(p, q api.MBlock) bool {
-		return p.Term == q.Term && slices.Equal(p.Code, q.Code)
-	})
 }

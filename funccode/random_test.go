@@ -142,7 +142,7 @@ func TestSequence(t *testing.T) {
 	for k := range funcs {
 		f, m := Func(c), MFunc(c)
 		at += len(funcBytes(funcs[k])) + len(mfuncBytes(mfuncs[k]))
-		if !sameFunc(f, funcs[k]) || !sameMFunc(m, mfuncs[k]) || c.At() != at {
+		if !testkit.SameFunc(f, funcs[k]) || !testkit.SameMFunc(m, mfuncs[k]) || c.At() != at {
 			t.Fatalf("%d: read %+v and %+v, offset %d, want %+v and %+v, %d", k, f, m, c.At(), funcs[k], mfuncs[k], at)
 		}
 	}
@@ -274,7 +274,7 @@ func TestPutKeeps(t *testing.T) {
 		PutFunc(&w, f)
 		PutMFunc(&w, m)
 		want := join(funcBytes(f), mfuncBytes(m))
-		if !sameFunc(testkit.WholeFunc(f), fBefore) || !sameMFunc(testkit.WholeMFunc(m), mBefore) {
+		if !testkit.SameFunc(testkit.WholeFunc(f), fBefore) || !testkit.SameMFunc(testkit.WholeMFunc(m), mBefore) {
 			t.Fatal("a function has been modified")
 		}
 		for k := range f.Blocks {
@@ -305,18 +305,18 @@ func TestReadShares(t *testing.T) {
 		for k := range got.Blocks {
 			spoilCode(got.Blocks[k].Code, api.Instr{Op: 99})
 			got.Blocks[k].Code = slices.Clone(f.Blocks[k].Code)
-			if !sameFunc(got, f) {
+			if !testkit.SameFunc(got, f) {
 				t.Fatalf("block %d shares memory", k)
 			}
 		}
 		for k := range gotM.Blocks {
 			spoilCode(gotM.Blocks[k].Code, api.Mach{Op: 99})
 			gotM.Blocks[k].Code = slices.Clone(m.Blocks[k].Code)
-			if !sameMFunc(gotM, m) {
+			if !testkit.SameMFunc(gotM, m) {
 				t.Fatalf("block %d shares memory", k)
 			}
 		}
-		if !sameFunc(other, f) || !sameMFunc(otherM, m) {
+		if !testkit.SameFunc(other, f) || !testkit.SameMFunc(otherM, m) {
 			t.Fatal("two results share memory")
 		}
 	}

@@ -160,7 +160,11 @@ func (s *Numbers) Func() api.Func {
 func (s *Numbers) MFunc() api.MFunc {
 	f := api.MFunc{Regs: 1 + s.Below(4), Slots: 1 + s.Below(4)}
 	f.Args = s.Below(f.Slots + 1)
-	blocks := 1 + s.Below(4)
+	return s.withBlocks(f, 1+s.Below(4))
+}
+
+// withBlocks returns f with this number of small valid blocks.
+func (s *Numbers) withBlocks(f api.MFunc, blocks int) api.MFunc {
 	for range blocks {
 		var b api.MBlock
 		for range s.Below(6) {
@@ -190,4 +194,18 @@ func WholeMFunc(f api.MFunc) api.MFunc {
 	}
 	f.Blocks = blocks
 	return f
+}
+
+// SameFunc reports whether a and b are the same function. Nil and empty slices are the same.
+func SameFunc(a, b api.Func) bool {
+	return a.Args == b.Args && a.Regs == b.Regs && slices.EqualFunc(a.Blocks, b.Blocks, func(p, q api.Block) bool {
+		return p.Term == q.Term && slices.Equal(p.Code, q.Code)
+	})
+}
+
+// SameMFunc reports whether a and b are the same allocated function.
+func SameMFunc(a, b api.MFunc) bool {
+	return a.Args == b.Args && a.Regs == b.Regs && a.Slots == b.Slots && slices.EqualFunc(a.Blocks, b.Blocks, func(p, q api.MBlock) bool {
+		return p.Term == q.Term && slices.Equal(p.Code, q.Code)
+	})
 }

@@ -2,7 +2,6 @@ package witness
 
 import (
 	"math/big"
-	"slices"
 
 	"regcert/api"
 	"regcert/cursor"
@@ -29,11 +28,6 @@ func out(l [][]api.Pair) []byte {
 	var w cursor.Writer
 	Put(&w, l)
 	return w.Out()
-}
-
-// same reports whether a and b are the same invariants. Nil and empty slices are the same.
-func same(a, b [][]api.Pair) bool {
-	return slices.EqualFunc(a, b, slices.Equal[[]api.Pair])
 }
 
 // encoding is the encoding of invariants by the wording of the definition.

@@ -82,28 +82,9 @@ func someSizes(s *testkit.Numbers) sizes {
 	return sizes{s.Below(5), some(), some(), some()}
 }
 
-// somePlace returns a location that is in range for n.
-func (n sizes) somePlace(s *testkit.Numbers) api.Loc {
-	if s.Below(2) == 0 {
-		return api.Loc(2 * s.Below(n.regs))
-	}
-	return api.Loc(2*s.Below(n.slots) + 1)
-}
-
 // invariants returns random invariants that are valid for n.
 func (n sizes) invariants(s *testkit.Numbers) [][]api.Pair {
-	l := make([][]api.Pair, n.blocks)
-	for k := range l {
-		var pairs []api.Pair
-		for range s.Below(5) {
-			v := s.Below(n.vregs)
-			for range 1 + s.Below(3) {
-				pairs = append(pairs, p(v, n.somePlace(s)))
-			}
-		}
-		l[k] = testkit.OrderedPairs(pairs)
-	}
-	return l
+	return s.Invariants(n.blocks, n.vregs, n.regs, n.slots)
 }
 
 // P19.1, P19.2, P19.3: random invariants, their encodings cut off anywhere, damaged ones, and ones for other numbers.
@@ -154,7 +135,7 @@ func TestSequence(t *testing.T) {
 	for k, n := range numbers {
 		l := n.get(c)
 		at += len(encoding(lists[k]))
-		if !same(l, lists[k]) || c.At() != at {
+		if !testkit.SameInvariants(l, lists[k]) || c.At() != at {
 			t.Fatalf("%d: read %v, offset %d, want %v, %d", k, l, c.At(), lists[k], at)
 		}
 	}
@@ -326,11 +307,11 @@ func TestGetShares(t *testing.T) {
 		for k := range got {
 			testkit.SpoilPairs(got[k])
 			got[k] = slices.Clone(l[k])
-			if !same(got, l) {
+			if !testkit.SameInvariants(got, l) {
 				t.Fatalf("invariant %d shares memory", k)
 			}
 		}
-		if !same(other, l) {
+		if !testkit.SameInvariants(other, l) {
 			t.Fatal("two results share memory")
 		}
 	}

@@ -23,7 +23,7 @@ func (n sizes) read(t *testing.T, b []byte, want [][]api.Pair, wantAt int, wantE
 	t.Helper()
 	c := cursor.New(b)
 	got := n.get(c)
-	if !same(got, want) || c.Err() != wantErr || wantErr == api.OK && c.At() != wantAt {
+	if !testkit.SameInvariants(got, want) || c.Err() != wantErr || wantErr == api.OK && c.At() != wantAt {
 		t.Errorf("Get of %v for %v = %v, error %d, offset %d, want %v, %d, %d", b[:min(len(b), 200)], n, some(got), c.Err(), c.At(), some(want), wantErr, wantAt)
 	}
 	if wantErr != api.OK && got != nil {
