@@ -313,26 +313,6 @@ func TestCode(t *testing.T) {
 	}
 }
 
-// damage changes a field of f.
-func damage(s *testkit.Numbers, f *api.Func) {
-	fields := []*int{&f.Args, &f.Regs}
-	var immediates []*int64
-	for k := range f.Blocks {
-		b := &f.Blocks[k]
-		for j := range b.Code {
-			i := &b.Code[j]
-			fields = append(fields, &i.Op, &i.D, &i.A, &i.B)
-			immediates = append(immediates, &i.Imm)
-		}
-		fields = append(fields, &b.Term.Kind, &b.Term.A, &b.Term.To, &b.Term.Else)
-	}
-	if n := s.Below(len(fields) + len(immediates)); n < len(fields) {
-		*fields[n] = s.Below(8) - 2
-	} else {
-		*immediates[n-len(fields)] = int64(s.Below(3))
-	}
-}
-
 // P7.3: valid functions, and those with one or several damaged fields.
 func TestCheckAsModel(t *testing.T) {
 	s := testkit.Numbers(7)
@@ -343,7 +323,7 @@ func TestCheckAsModel(t *testing.T) {
 			t.Errorf("valid function %+v: error %d", f, err)
 		}
 		for range 3 {
-			damage(&s, &f)
+			s.DamageFunc(&f)
 			err := Check(f)
 			if want := checkModel(f); err != want {
 				t.Errorf("function %+v: error %d, want %d", f, err, want)
@@ -363,7 +343,7 @@ func TestArgumentsUnmodified(t *testing.T) {
 	s := testkit.Numbers(9)
 	for range 2000 {
 		f := s.Func()
-		damage(&s, &f)
+		s.DamageFunc(&f)
 		for k := range f.Blocks {
 			f.Blocks[k].Code = append(f.Blocks[k].Code, api.Instr{Op: 9, D: 9, A: 9, B: 9, Imm: 9})[:len(f.Blocks[k].Code)]
 		}

@@ -156,6 +156,44 @@ func (s *Numbers) Func() api.Func {
 	return f
 }
 
+// CopyingFunc returns a valid function with up to this number of instructions in each block, many of them copies.
+func (s *Numbers) CopyingFunc(most int) api.Func {
+	f := s.Func()
+	for k := range f.Blocks {
+		b := &f.Blocks[k]
+		b.Code = nil
+		rate := 1 + s.Below(3)
+		for range s.Below(most + 1) {
+			i := s.Instr(f.Regs)
+			if s.Below(rate) == 0 {
+				i = api.Instr{Op: 2, D: s.Below(f.Regs), A: s.Below(f.Regs)}
+			}
+			b.Code = append(b.Code, i)
+		}
+	}
+	return f
+}
+
+// DamageFunc changes a field of f.
+func (s *Numbers) DamageFunc(f *api.Func) {
+	fields := []*int{&f.Args, &f.Regs}
+	var immediates []*int64
+	for k := range f.Blocks {
+		b := &f.Blocks[k]
+		for j := range b.Code {
+			i := &b.Code[j]
+			fields = append(fields, &i.Op, &i.D, &i.A, &i.B)
+			immediates = append(immediates, &i.Imm)
+		}
+		fields = append(fields, &b.Term.Kind, &b.Term.A, &b.Term.To, &b.Term.Else)
+	}
+	if n := s.Below(len(fields) + len(immediates)); n < len(fields) {
+		*fields[n] = s.Below(8) - 2
+	} else {
+		*immediates[n-len(fields)] = int64(s.Below(3))
+	}
+}
+
 // MFunc returns a small valid allocated function.
 func (s *Numbers) MFunc() api.MFunc {
 	f := api.MFunc{Regs: 1 + s.Below(4), Slots: 1 + s.Below(4)}
