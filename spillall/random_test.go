@@ -93,21 +93,12 @@ func TestMemory(t *testing.T) {
 			t.Errorf("%+v has changed to %+v", before, testkit.WholeFunc(f))
 		}
 		want := testkit.RoomyCert(c)
-		spoilFunc(f)
+		testkit.SpoilFunc(f)
 		if !testkit.SameCert(c, want) {
 			t.Errorf("%+v shares memory with its certificate", before)
 		}
 		separate(t, c, want)
 	})
-}
-
-// spoilFunc changes everything in the slices of f and in their unused capacity.
-func spoilFunc(f api.Func) {
-	blocks := f.Blocks[:cap(f.Blocks)]
-	for _, b := range blocks {
-		clear(b.Code[:cap(b.Code)])
-	}
-	clear(blocks)
 }
 
 // separate checks that the slices of c, which is equal to want, share no memory: each is cleared with its unused capacity, and all others are compared.

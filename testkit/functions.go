@@ -234,6 +234,15 @@ func WholeMFunc(f api.MFunc) api.MFunc {
 	return f
 }
 
+// SpoilFunc changes everything in the slices of f and in their unused capacity.
+func SpoilFunc(f api.Func) {
+	blocks := f.Blocks[:cap(f.Blocks)]
+	for _, b := range blocks {
+		clear(b.Code[:cap(b.Code)])
+	}
+	clear(blocks)
+}
+
 // SameFunc reports whether a and b are the same function. Nil and empty slices are the same.
 func SameFunc(a, b api.Func) bool {
 	return a.Args == b.Args && a.Regs == b.Regs && slices.EqualFunc(a.Blocks, b.Blocks, func(p, q api.Block) bool {
